@@ -1,0 +1,1 @@
+"""Rowmill: a machine that does several rows at once, and answers as the plain one does."""
