@@ -1,6 +1,22 @@
-"""What is reckoned of words: numbers from 0 to 65535, beyond which only the rest by 65536 is kept."""
+"""Words: numbers from 0 to 65535; what they are, and what is reckoned of them by its rest by 65536."""
 
 WORDS = 65536
+
+
+def is_number(thing):
+    return isinstance(thing, int) and not isinstance(thing, bool)
+
+
+def is_within(thing, low, high):
+    return is_number(thing) and low <= thing <= high
+
+
+def is_word(thing):
+    return is_within(thing, 0, WORDS - 1)
+
+
+def is_listed(thing):
+    return isinstance(thing, (list, tuple))
 
 
 def as_word(number):

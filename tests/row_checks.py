@@ -1,4 +1,4 @@
-"""What the tests of rows and of jumps ask alike."""
+"""What the tests of rows, of jumps and of the others ask alike."""
 
 from rowmill.rows import Row
 
@@ -39,7 +39,7 @@ def check_row(case, row, fields, words, place, **asked):
     case.assertEqual(fields_of(row), fields)
     answers = answers_of(row, words, place)
     case.assertEqual(answers, wanted)
-    case.assertIs(answers["alone"], False)
+    case.assertIs(answers["alone"], wanted["alone"])
     for name in ("told", "reads"):
         case.assertIs(type(answers[name]), tuple)
     for name in ("long", "goal"):

@@ -28,6 +28,13 @@ NODES = (
 NEVER_WORDS = re.compile(
     r"\b(type|typing|typing_extensions|enum|Enum|IntEnum|StrEnum|Flag|IntFlag|Generic|Protocol|ABC|ABCMeta|namedtuple"
     r"|NamedTuple|TypedDict|TYPE_CHECKING|abstractmethod)\b|dataclass|overload|contextmanager")
+KEYWORDS = {
+    "sorted": ("key", "reverse"), "min": ("key", "default"), "max": ("key", "default"), "sum": ("start",),
+    "enumerate": ("start",), "zip": ("strict",),
+}
+WALKED = ("zip", "enumerate", "reversed", "range")
+WALKED_METHODS = ("items", "keys", "values")
+WALKERS = ("list", "tuple", "dict", "sorted", "sum", "any", "all", "enumerate", "zip", "min", "max")
 NEVER_NAMES = ("register", "mro", "elements", "open", "input", "version_info", "with_traceback", "add_note", "format",
                "format_map")
 
@@ -62,6 +69,32 @@ def methods_and_values():
             elif isinstance(part, ast.Attribute) and isinstance(part.ctx, ast.Store):
                 values.add(part.attr)
     return methods, values
+
+
+def parents(tree):
+    return {child: node for node in ast.walk(tree) for child in ast.iter_child_nodes(node)}
+
+
+def own_classes():
+    return {node.name for _, node in nodes(ast.ClassDef)}
+
+
+def is_called(node, names):
+    return isinstance(node, ast.Call) and isinstance(node.func, ast.Name) and node.func.id in names
+
+
+def is_plain_value(node, functions):
+    if isinstance(node, ast.Constant):
+        return True
+    if isinstance(node, ast.UnaryOp):
+        return isinstance(node.operand, ast.Constant)
+    if isinstance(node, ast.Name):
+        return node.id in functions
+    if isinstance(node, (ast.List, ast.Tuple)):
+        return all(is_plain_value(part, functions) for part in node.elts)
+    if isinstance(node, ast.Dict):
+        return all(is_plain_value(part, functions) for part in node.keys + node.values)
+    return False
 
 
 class Files(unittest.TestCase):
@@ -138,7 +171,99 @@ class Forms(unittest.TestCase):
                 self.assertIsInstance(part, (ast.FunctionDef, ast.Pass, ast.Expr), f"L5 {path.name}:{part.lineno}")
 
 
+    def test_the_top_of_a_module(self):
+        for path, tree in TREES.items():
+            functions = set()
+            for node in tree.body:
+                where = f"L3 {path.name}:{node.lineno}"
+                self.assertIsInstance(
+                    node, (ast.Expr, ast.ImportFrom, ast.FunctionDef, ast.ClassDef, ast.Assign), where)
+                if isinstance(node, ast.FunctionDef):
+                    functions.add(node.name)
+                if isinstance(node, ast.Expr):
+                    self.assertIsInstance(node.value, ast.Constant, where)
+                if isinstance(node, ast.Assign):
+                    self.assertTrue(is_plain_value(node.value, functions), where)
+
+    def test_loops_and_tries(self):
+        for path, node in nodes((ast.For, ast.While)):
+            self.assertEqual(node.orelse, [], f"L6 {path.name}:{node.lineno}")
+        for path, node in nodes(ast.Try):
+            self.assertEqual(node.finalbody, [], f"L6 {path.name}:{node.lineno}")
+            for handler in node.handlers:
+                self.assertIsInstance(handler.type, ast.Name, f"L19 {path.name}:{node.lineno}")
+                self.assertNotIn(handler.type.id, ("Exception", "TypeError"), f"L19 {path.name}:{node.lineno}")
+        for path, node in nodes(ast.Assign):
+            self.assertEqual(len(node.targets), 1, f"L6 {path.name}:{node.lineno}")
+
+    def test_comprehensions_and_texts(self):
+        for path, node in nodes(ast.ListComp):
+            self.assertEqual(len(node.generators), 1, f"L7 {path.name}:{node.lineno}")
+            self.assertLessEqual(len(node.generators[0].ifs), 1, f"L7 {path.name}:{node.lineno}")
+        for path, node in nodes(ast.FormattedValue):
+            self.assertIsInstance(node.value, ast.Name, f"L7 {path.name}:{node.lineno}")
+            self.assertIsNone(node.format_spec, f"L7 {path.name}:{node.lineno}")
+
+    def test_keywords(self):
+        for path, node in nodes(ast.Call):
+            used = [keyword.arg for keyword in node.keywords]
+            self.assertNotIn(None, used, f"L7 {path.name}:{node.lineno}")
+            if isinstance(node.func, ast.Name) and hasattr(builtins, node.func.id):
+                self.assertLessEqual(set(used), set(KEYWORDS.get(node.func.id, ())), f"L22 {path.name}:{node.lineno}")
+            if isinstance(node.func, ast.Attribute) and node.func.attr in OWN_METHODS:
+                self.assertEqual(used, [], f"L22 {path.name}:{node.lineno}")
+
+    def test_what_is_walked_at_once(self):
+        for path, tree in TREES.items():
+            above = parents(tree)
+            for node in ast.walk(tree):
+                method = isinstance(node, ast.Call) and isinstance(node.func, ast.Attribute)
+                if is_called(node, WALKED) or method and node.func.attr in WALKED_METHODS:
+                    over = above[node]
+                    walked = isinstance(over, (ast.For, ast.comprehension)) and over.iter is node
+                    first = is_called(over, WALKERS) and (over.args[0] is node or over.func.id == "zip")
+                    self.assertTrue(walked or first, f"L23 {path.name}:{node.lineno}")
+
+    def test_classes_are_not_handed_on(self):
+        classes = own_classes()
+        for path, tree in TREES.items():
+            above = parents(tree)
+            for node in ast.walk(tree):
+                if not isinstance(node, ast.Name) or node.id not in classes:
+                    continue
+                over = above[node]
+                if isinstance(over, ast.Tuple):
+                    over = above[over]
+                asked = is_called(over, ("isinstance",))
+                called = isinstance(over, ast.Call) and over.func is node
+                named = isinstance(over, (ast.ClassDef, ast.ExceptHandler))
+                base = isinstance(over, ast.Attribute) and over.attr == "__init__"
+                self.assertTrue(asked or called or named or base, f"L18 {path.name}:{node.lineno}")
+
+
 class Names(unittest.TestCase):
+    def test_names_of_locals(self):
+        for path, tree in TREES.items():
+            tops = [node.name for node in tree.body if isinstance(node, (ast.ClassDef, ast.FunctionDef))]
+            tops += imported(tree)
+            for function in ast.walk(tree):
+                if not isinstance(function, ast.FunctionDef):
+                    continue
+                stored = [node.id for node in ast.walk(function)
+                          if isinstance(node, ast.Name) and isinstance(node.ctx, ast.Store)]
+                for name in stored + [node.arg for node in ast.walk(function) if isinstance(node, ast.arg)]:
+                    self.assertNotIn(name, tops, f"L15 {path.name} {function.name}")
+                    self.assertFalse(hasattr(builtins, name), f"L15 {path.name} {function.name} {name}")
+
+    def test_methods_are_called_where_they_stand(self):
+        methods, _ = methods_and_values()
+        for path, tree in TREES.items():
+            above = parents(tree)
+            for node in ast.walk(tree):
+                if isinstance(node, ast.Attribute) and node.attr in OWN_METHODS | methods:
+                    over = above[node]
+                    self.assertTrue(isinstance(over, ast.Call) and over.func is node, f"L25 {path.name}:{node.lineno}")
+
     def test_names_that_are_bound(self):
         for path, tree in TREES.items():
             tops = [node.name for node in tree.body if isinstance(node, ast.ClassDef)] + imported(tree)
