@@ -12,3 +12,11 @@ INPUTS = (
     list(NO_LISTS) + [[0] * many for many in (61, 62, 64, 1000)] + [(0,) * 61]
     + [[wrong] for wrong in NO_WORDS] + [(0, wrong) for wrong in NO_WORDS] + [[0] * 59 + [wrong] for wrong in NO_WORDS]
 )
+CALLS = (
+    list(NO_LISTS) + [[(0, 0)] * 21, ((0, 0),) * 21, [(1, 0), (0, 0)], [(0, 0), (5, 1), (4, 1)]]
+    + [[(0, wrong)] for wrong in (-1, 16, 10 ** 30, True, False, None, "0", 1.0, (), [])]
+    + [[(wrong, 0)] for wrong in (-1, -10 ** 30, True, False, None, "0", 1.0, (), [])]
+    + [[wrong] for wrong in (None, 0, 5, True, "ab", (), (0,), (0, 0, 0), [0], [0, 0, 0], {}, {0: 0, 1: 1}, {0, 1})]
+    + [[(0, 0), wrong] for wrong in (None, (True, 0), (0, True), (0, 16), "00")]
+    + [(0, 0), [0, 0]]
+)
