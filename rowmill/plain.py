@@ -13,6 +13,9 @@ CALLED = 16
 LAST_CALL = 15
 MOST_INPUTS = 60
 
+# For each kind of row of a log, how many numbers it tells.
+LOG_NUMBERS = {"done": 1, "fault": 2, "call": 2}
+
 
 def are_words(things):
     return is_listed(things) and all([is_word(thing) for thing in things])
@@ -115,6 +118,14 @@ class State:
         return (tuple(self.boxes), place, self.inside, self.cause, self.back, said, left, self.end)
 
 
+def ran(machine, most):
+    steps = 0
+    while steps < most and machine.state.end == "":
+        machine.step()
+        steps = steps + 1
+    return steps
+
+
 class Plain:
     def __init__(self, program, memory, inputs=None):
         self.program = program
@@ -176,11 +187,7 @@ class Plain:
         return self.noted(("call", number, place))
 
     def run(self, most):
-        steps = 0
-        while steps < most and self.state.end == "":
-            self.step()
-            steps = steps + 1
-        return steps
+        return ran(self, most)
 
     def log(self):
         return list(self.answers)

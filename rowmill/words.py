@@ -1,6 +1,7 @@
 """Words: numbers from 0 to 65535; what they are, and what is reckoned of them by its rest by 65536."""
 
 WORDS = 65536
+LAST_WORD = 65535
 
 
 def is_number(thing):
@@ -12,7 +13,7 @@ def is_within(thing, low, high):
 
 
 def is_word(thing):
-    return is_within(thing, 0, WORDS - 1)
+    return is_within(thing, 0, LAST_WORD)
 
 
 def is_listed(thing):
