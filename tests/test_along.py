@@ -52,7 +52,7 @@ class Along(unittest.TestCase):
                 along(read(TEXT), FOUR, inputs, ["x"])
 
     def test_rows_of_no_form(self):
-        for row in (None, 0, True, "", "done", "done 0", (), [], {}, ("done",), ("done", 0, 0), ("fault", 0), ("call", 3),
+        for row in (None, 0, True, "", "done", "done 0", (), [], {}, ("done",), ("done", 0, 0), ("fault", 0), ("call", 3), ("call",),
                     ("call", 3, 1, 1), ("fault", 2, 5, 5), ("gap", "fill"), (0, "done"), (None, 0), (["done"], 0), ("Done", 0),
                     ("done", "0"), ("done", None), ("done", 0.0), ("done", [0]), {"done": 0}, 5.5, ("stop",), (("done", 0),)):
             self.refused([row], 0)

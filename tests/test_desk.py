@@ -41,8 +41,8 @@ class Told(Case):
     def test_at_first(self):
         self.answers([
             ("mill", "ok"), ("boxes", "0 0 0 0 0 0 0 0"), ("said", "none"), ("end", "on"), ("log", "none"),
-            ("gaps", "none"), ("steps", "0"), ("plain", "alike"), ("look 0", "0"), ("look 3", "0"),
-            ("look 4", "refused: NoPlace"), ("step 200", "6"), ("end", "lost"), ("log", "fault 0 1"), ("gaps", "fill 5"),
+            ("gaps", "none"), ("steps", "0"), ("plain", "alike"), ("look 0", "0"), ("look 1", "0"), ("look 2", "0"),
+            ("look 3", "0"), ("look 4", "refused: NoPlace"), ("step 200", "6"), ("end", "lost"), ("log", "fault 0 1"), ("gaps", "fill 5"),
             ("step 200", "0"), ("step 0", "0"), ("steps", "6"), ("plain", "alike"),
         ])
 

@@ -185,6 +185,10 @@ class Refused(Case):
             for row in ("jump ", "zero r1 ", "link r1 ", "hall "):
                 self.row_refused(row + name)
 
+    def test_labels_where_only_numbers_may_stand(self):
+        for row in ("num r1 a", "plus r1 r2 a", "load r1 r2 a", "store r1 r2 a", "code a", "add r1 r2 a", "go a", "tell a"):
+            self.refused("stop\na:\n" + row + "\nwrong", 2)
+
     def test_a_label_told_twice(self):
         self.refused("a:\nstop\na:", 2)
         self.refused("a:\na:\nwrong", 1)
